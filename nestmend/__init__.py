@@ -1,0 +1,1 @@
+"""Nestmend: brackets of several kinds mended."""
