@@ -4,6 +4,8 @@ LETTERS = "abcdefghijklmnopqrstuvwxyz"
 # An order of kinds names them one by one as they stand here.
 OPENING = "(<[{"
 CLOSING = ")>]}"
+# Deeds rise by their signs as these do.
+BRACKETS = "()<>[]{}"
 OTHER = {
     "(": ")", "<": ">", "[": "]", "{": "}",
     ")": "(", ">": "<", "]": "[", "}": "{",
@@ -18,6 +20,11 @@ def is_letter(thing):
 def is_opening(thing):
     """True where the thing, whatever it is, is one opening bracket."""
     return is_one_of(thing, OPENING)
+
+
+def is_bracket(thing):
+    """True where the thing, whatever it is, is one bracket."""
+    return is_one_of(thing, BRACKETS)
 
 
 def is_one_of(thing, signs):
