@@ -18,7 +18,8 @@ NO_NUMBERS = [thing for thing in THINGS if type(thing) is not int] + [[0], (0,),
 # Texts that need several deeds, or have several brackets put at one place.
 HARD = (")(](", "](}<", "a)b(c", "([)]", "((((", "))))", "(((", "<<<>", "{a[b", "<(a]", "}}((", "[)(]")
 LONG = (
-    ")(" * 7, "([<{" * 3 + "((", ")]>}" * 3 + "}}", ")" * 7 + "(" * 7, "(" * 13 + "a", "a(b[c<d{e)f>g]", "([)]" * 3 + "<>",
+    ")(" * 7, "([<{" * 3 + "((", ")]>}" * 3 + "}}", ")" * 7 + "(" * 7, "(" * 13 + "a", "a(b[c<d{e)f>g]",
+    "([)]" * 3 + "<>",
     "(]" * 7, "{" * 7 + ")" * 7, "ab)cd)ef)gh)ij", "a" * 14, "()" * 7, "<[" * 3 + "a" + ")}" * 3 + "b",
 )
 
