@@ -1,43 +1,24 @@
 """All least mendings of a text: how many there are, and each by its number."""
 
-from nestmend.deeds import is_mending
-from nestmend.errors import NoDeeds, NoNumber
-from nestmend.ways import Ways, stretch_tallies
-from nestmend.whole import is_whole
+from nestmend.deeds import WORDS, is_mending
+from nestmend.errors import NoDeeds
+from nestmend.tallies import columns_of
+from nestmend.ways import Ways
 
 
 def how_many(text):
     """How many least mendings the text has."""
-    return stretch_tallies(text)[0][-1][1]
+    return columns_of(text, WORDS)[-1][0][1]
 
 
 def kth_mending(text, k):
     """The least mending with the number k."""
-    ways = Ways(text)
-    if not is_whole(k) or k < 0 or k >= ways.left(0, "")[1]:
-        raise NoNumber("no least mending has this number")
-    deeds = []
-    number, place, wants = k, 0, ""
-    # Where no deed is left to do there is just one way, and the rest of the text stays.
-    while ways.left(place, wants)[0] > 0:
-        number, deed, place, wants = step_by_number(ways.steps(place, wants), number)
-        if deed is not None:
-            deeds.append(deed)
-    return deeds
-
-
-def step_by_number(steps, number):
-    """The step that the way with this number takes, behind its number among the ways that take this step."""
-    at = 0
-    while number >= steps[at][0]:
-        number -= steps[at][0]
-        at += 1
-    return (number, steps[at][1], steps[at][2], steps[at][3])
+    return Ways(text, WORDS).kth(k)
 
 
 def number_of(text, deeds):
     """The number of a least mending."""
-    ways = Ways(text)
+    ways = Ways(text, WORDS)
     if not is_mending(text, deeds) or len(deeds) != ways.left(0, "")[0]:
         raise NoDeeds("this is no least mending of this text")
     number, place, wants = 0, 0, ""

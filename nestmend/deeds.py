@@ -7,6 +7,8 @@ from nestmend.whole import is_whole
 PUT = "put"
 STRIKE = "strike"
 TURN = "turn"
+# In the order in which deeds of one place rise by them.
+WORDS = ("put", "strike", "turn")
 
 
 def are_deeds(text, thing):

@@ -1,10 +1,14 @@
 """Deeds once more, slow and plain: all lists of them gone through, as the document's words have it."""
 
 import itertools
+import random
 
 from tests.oracle import CLOSING, LETTERS, OPENING, clean
 
 BRACKETS = OPENING + CLOSING
+WORDS = ("put", "strike", "turn")
+# All words that can be asked for.
+ALL_WORDS = tuple(words for many in (1, 2, 3) for words in itertools.combinations(WORDS, many))
 
 
 def deeds_at(text, place):
@@ -60,35 +64,47 @@ def close(open_ones, bracket):
     return open_ones[:-1] if open_ones.endswith(opening) else None
 
 
-def mendings_within(text, many, place=0, open_ones=""):
-    """All mendings with at most so many deeds, in no order; no list is begun that no more deeds make clean."""
+def mendings_within(text, many, place=0, open_ones="", words=WORDS):
+    """All mendings by words with at most so many deeds, in no order; none is begun that no more deeds make clean."""
     if len(open_ones) > many + len(text) - place:
         return
     if place == len(text) and open_ones == "":
         yield []
     if place < len(text):
         if text[place] in LETTERS:
-            yield from mendings_within(text, many, place + 1, open_ones)
+            yield from mendings_within(text, many, place + 1, open_ones, words)
         else:
             still = close(open_ones, text[place])
             if still is not None:
-                yield from mendings_within(text, many, place + 1, still)
+                yield from mendings_within(text, many, place + 1, still, words)
     if many == 0:
         return
     for deed in [(place, "put", bracket) for bracket in BRACKETS] + deeds_at(text, place):
         still = open_ones if deed[2] == "" else close(open_ones, deed[2])
-        if still is not None:
+        if deed[1] in words and still is not None:
             beyond = place if deed[1] == "put" else place + 1
-            for rest in mendings_within(text, many - 1, beyond, still):
+            for rest in mendings_within(text, many - 1, beyond, still, words):
                 yield [deed, *rest]
 
 
-def pruned_least_mendings(text):
-    """As least_mendings, but for somewhat longer texts."""
-    for many in itertools.count():
-        found = sorted(mendings_within(text, many))
+def pruned_least_mendings(text, words=WORDS):
+    """As least_mendings, but for somewhat longer texts, and by words; none where there are no such mendings."""
+    # Where a text can be mended by words, one deed for each bracket is enough.
+    for many in range(len(text) + 1):
+        found = sorted(mendings_within(text, many, words=words))
         if found:
             return found
+    return []
+
+
+def plain_least_by(text, words):
+    """As pruned_least_mendings, but plainly all lists of deeds gone through."""
+    for many in range(len(text) + 1):
+        lists = [deeds for deeds in deed_lists(text, many) if all(word in words for _, word, _ in deeds)]
+        found = [deeds for deeds in lists if clean(told_by(text, deeds))]
+        if found:
+            return sorted(found)
+    return []
 
 
 def is_list_of_deeds(text, thing):
@@ -110,6 +126,12 @@ def is_list_of_deeds(text, thing):
 def is_same(thing, deed):
     """Whether a thing is just this deed, and no number in it a truth."""
     return isinstance(thing, tuple) and [type(part) for part in thing] == [int, str, str] and thing == deed
+
+
+def some_texts(many, shortest, longest, seed, signs="a" + BRACKETS):
+    """Texts that look like chance but are the same each time."""
+    chance = random.Random(seed)
+    return ["".join(chance.choices(signs, k=chance.randrange(shortest, longest + 1))) for _ in range(many)]
 
 
 def few_by_checker(text):

@@ -10,7 +10,7 @@ from nestmend.counted import how_many, kth_mending, number_of
 from nestmend.deeds import is_mending
 from nestmend.errors import NoDeeds, NoNumber
 from nestmend.signs import in_kinds, turned_about
-from tests.mendings import BRACKETS, few_by_checker, least_mendings, pruned_least_mendings
+from tests.mendings import BRACKETS, few_by_checker, least_mendings, pruned_least_mendings, some_texts
 from tests.oracle import THINGS, spoil, texts
 
 # Whole numbers of THINGS are tried by themselves.
@@ -22,12 +22,6 @@ LONG = (
     "([)]" * 3 + "<>",
     "(]" * 7, "{" * 7 + ")" * 7, "ab)cd)ef)gh)ij", "a" * 14, "()" * 7, "<[" * 3 + "a" + ")}" * 3 + "b",
 )
-
-
-def some_texts(many, shortest, longest, seed, signs="a" + BRACKETS):
-    """Texts that look like chance but are the same each time."""
-    chance = random.Random(seed)
-    return ["".join(chance.choices(signs, k=chance.randrange(shortest, longest + 1))) for _ in range(many)]
 
 
 def catalan(many):
