@@ -6,6 +6,8 @@ OPENING = "(<[{"
 CLOSING = ")>]}"
 # Deeds rise by their signs as these do.
 BRACKETS = "()<>[]{}"
+# How many signs a text has at most that is kept, or that written deeds are of.
+MOST_SIGNS = 40
 OTHER = {
     "(": ")", "<": ">", "[": "]", "{": "}",
     ")": "(", ">": "<", "]": "[", "}": "{",
@@ -15,6 +17,11 @@ OTHER = {
 def is_letter(thing):
     """True where the thing, whatever it is, is one small letter."""
     return is_one_of(thing, LETTERS)
+
+
+def is_sign(thing):
+    """True where the thing, whatever it is, is one letter or one bracket."""
+    return is_letter(thing) or is_bracket(thing)
 
 
 def is_opening(thing):

@@ -20,6 +20,14 @@ BUILTINS = set(
 )
 
 
+# Methods of builtin values that may be called.
+METHODS = set(
+    "append clear copy count endswith extend find get index insert isalnum isalpha isdigit islower isspace isupper"
+    " items join keys ljust lower lstrip partition pop remove replace reverse rfind rjust rpartition rsplit rstrip"
+    " setdefault split splitlines startswith strip update upper values zfill bit_length add discard".split()
+)
+
+
 def bound_names(tree):
     """All names that a file gives a meaning."""
     names = set()
@@ -74,6 +82,37 @@ class Language(unittest.TestCase):
                 self.assertFalse(one.startswith("_") and not re.fullmatch(r"__\w+__", one), one)
             read = {node.id for node in ast.walk(tree) if isinstance(node, ast.Name)}
             self.assertEqual(read - bound - BUILTINS, set(), name)
+
+    def test_methods_and_attributes(self):
+        methods, stored, called, read = set(), set(), set(), set()
+        for _, text in TEXTS:
+            for node in ast.walk(ast.parse(text)):
+                if isinstance(node, ast.ClassDef):
+                    methods |= {one.name for one in node.body if isinstance(one, ast.FunctionDef)}
+                elif isinstance(node, ast.Attribute) and isinstance(node.ctx, ast.Store):
+                    stored.add(node.attr)
+                elif isinstance(node, ast.Call) and isinstance(node.func, ast.Attribute):
+                    called.add(node.func.attr)
+                elif isinstance(node, ast.Attribute):
+                    read.add(node.attr)
+        self.assertEqual(methods & stored, set())
+        self.assertEqual(called - methods - METHODS, set())
+        self.assertEqual(read - stored - called, set())
+
+    def test_each_import_names_the_file_that_defines_the_name(self):
+        trees = {name.removesuffix(".py"): ast.parse(text) for name, text in TEXTS}
+        for name, tree in trees.items():
+            bound = [one for node in tree.body if isinstance(node, ast.ImportFrom) for one in node.names]
+            names = [node for node in ast.walk(tree) if isinstance(node, ast.Name)]
+            inner = {node.id for node in names if isinstance(node.ctx, ast.Store)}
+            inner |= {node.arg for node in ast.walk(tree) if isinstance(node, ast.arg)}
+            self.assertEqual(inner & {one.name for one in bound}, set(), name)
+            for node in tree.body:
+                if isinstance(node, ast.ImportFrom):
+                    there = trees[node.module.removeprefix("nestmend.")].body
+                    defined = {one.name for one in there if isinstance(one, (ast.FunctionDef, ast.ClassDef))}
+                    defined |= {one.targets[0].id for one in there if isinstance(one, ast.Assign)}
+                    self.assertLessEqual({one.name for one in node.names}, defined, name)
 
 
 if __name__ == "__main__":
