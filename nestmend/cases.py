@@ -9,7 +9,7 @@ and besides all these stretches, which are smaller, are mended, each by itself.
 """
 
 from nestmend.deeds import PUT, STRIKE, TURN
-from nestmend.signs import CLOSING, LETTERS, OPENING, OTHER
+from nestmend.signs import BRACKETS, CLOSING, LETTERS, OPENING, OTHER
 
 
 def cases_of(signs, words, begin, end):
@@ -29,7 +29,7 @@ def passing_cases(signs, words, begin, end):
     if STRIKE in words:
         cases.append(([[(begin, STRIKE, "")]], [rest]))
     for place in range(begin + 1, end):
-        choices = pair_choices(signs, words, begin, place)
+        choices = pair_choices(signs, words, begin, place) if signs[place] in BRACKETS else []
         if choices:
             cases.append((choices, [(begin + 1, place), (place + 1, end)]))
     if PUT in words and signs[begin] in OPENING:
@@ -57,9 +57,7 @@ def opening_cases(signs, begin, end):
 
 
 def pair_choices(signs, words, first, second):
-    """All choices of as few turns as can be that make partners of the signs at two places."""
-    if signs[first] in LETTERS or signs[second] in LETTERS:
-        return []
+    """All choices of as few turns as can be that make partners of the brackets at two places."""
     choices = [turns(signs, first, opening) + turns(signs, second, OTHER[opening]) for opening in OPENING]
     few = min(len(choice) for choice in choices)
     if few > 0 and TURN not in words:

@@ -40,7 +40,7 @@ def turns_between(first, second):
     """How many of two brackets must be turned at least to be an opening and a closing one of one kind."""
     if first in CLOSING and second in OPENING:
         return 2
-    return 0 if first in OPENING and second == OTHER[first] else 1
+    return 0 if second == OTHER[first] else 1
 
 
 def is_low(text, table):

@@ -36,7 +36,8 @@ def joined(tallies):
 def case_tally(columns, case):
     """The tally of one case of a stretch."""
     choices, stretches = case
-    return joined([(len(choices[0]), len(choices)), *[columns[end][begin] for begin, end in stretches]])
+    own = (len(choices[0]), len(choices))
+    return joined([own] + [columns[end][begin] for begin, end in stretches])
 
 
 def add_column(columns, signs, words):
